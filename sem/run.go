@@ -1,6 +1,9 @@
 package sem
 
-import "bellwright/api"
+import (
+	"bellwright/api"
+	"bellwright/reckon"
+)
 
 // world is what all calls of a run share.
 type world struct {
@@ -191,42 +194,16 @@ func (c *call) value(x api.Node) int {
 	case api.Call:
 		return c.part(x.M, x.At, x.Args)
 	case api.Not:
-		return truth(!c.holds(x.Args[0]))
+		return reckon.Truth(!c.holds(x.Args[0]))
 	case api.And:
-		return truth(c.holds(x.Args[0]) && c.holds(x.Args[1]))
+		return reckon.Truth(c.holds(x.Args[0]) && c.holds(x.Args[1]))
 	case api.Or:
-		return truth(c.holds(x.Args[0]) || c.holds(x.Args[1]))
+		return reckon.Truth(c.holds(x.Args[0]) || c.holds(x.Args[1]))
 	}
 	first := c.value(x.Args[0])
-	return c.reckon(x.Op, first, c.value(x.Args[1]))
-}
-
-// reckon works out Add to Less of two numbers.
-func (c *call) reckon(op, a, b int) int {
-	switch op {
-	case api.Add:
-		return a + b
-	case api.Sub:
-		return a - b
-	case api.Mul:
-		return a * b
-	case api.Eq:
-		return truth(a == b)
-	case api.Less:
-		return truth(a < b)
-	}
-	if b == 0 {
+	n, ok := reckon.Of(x.Op, first, c.value(x.Args[1]))
+	if !ok {
 		c.stop(api.ByZero)
 	}
-	if op == api.Div {
-		return a / b
-	}
-	return a % b
-}
-
-func truth(is bool) int {
-	if is {
-		return 1
-	}
-	return 0
+	return n
 }
