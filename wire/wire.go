@@ -56,6 +56,15 @@ func (r *Reader) Number() int {
 	return n
 }
 
+// Count tells how many things come behind: a number that is not below 0, else it panics.
+func (r *Reader) Count() int {
+	n := r.Number()
+	if n < 0 {
+		panic("fewer than none")
+	}
+	return n
+}
+
 func (r *Reader) take(n int) string {
 	if n > len(r.rest) {
 		panic("too few bytes")

@@ -21,6 +21,19 @@ func TestNumbers(t *testing.T) {
 	}
 }
 
+// H2: a number of elements is a number that is not below 0.
+func TestCounts(t *testing.T) {
+	for _, n := range []int{0, 1, 256, math.MaxInt64, -1, -256, math.MinInt64} {
+		m, ok := Whole(string(AppendNumber(nil, n)), (*Reader).Count)
+		if ok != (n >= 0) || m != max(n, 0) {
+			t.Errorf("%d is counted as %d %v", n, m, ok)
+		}
+	}
+	if m, ok := Whole("\x00\x00\x00\x00\x00\x00\x01", (*Reader).Count); ok || m != 0 {
+		t.Errorf("seven bytes are counted as %d %v", m, ok)
+	}
+}
+
 // E1: a text is how many bytes it has, and they, any of them.
 func TestTexts(t *testing.T) {
 	for _, s := range []string{"", "a", "\x00\xff", strings.Repeat("b", 255)} {
